@@ -1,0 +1,1 @@
+"""The air: stations that roam. What it answers is asked in roamair.world."""
