@@ -13,7 +13,19 @@ ARGUMENTS = (
     ("point", "station"),
     ("point", "station"),
     ("message",),
+    ("message",),
+    ("message",),
+    ("times",),
+    ("station",),
+    ("station",),
+    ("point", "station"),
+    ("point",),
+    (),
+    ("point", "point", "weight"),
+    ("channels",),
 )
+
+HEARS = 19
 
 # The least and the greatest that are taken, where the world has no say in it.
 RANGES = {
@@ -24,6 +36,9 @@ RANGES = {
     "bit": (0, 1),
     "station": (0, 63),
     "frame": (0, 4294967295),
+    "times": (0, 10000),
+    "weight": (0, 1000000),
+    "channels": (1, 4),
 }
 
 
@@ -44,4 +59,5 @@ def all_in_range(world, place, numbers):
         bounds = range_of(world, meaning)
         if number < bounds[0] or number > bounds[1]:
             return False
-    return True
+    # A point has no pair with itself: that's told as an argument out of range too.
+    return place != HEARS or numbers[0] != numbers[1]

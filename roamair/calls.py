@@ -3,12 +3,14 @@
 Each takes the world and its arguments in a list, and answers a list of numbers.
 """
 
+from roamair.channels import best_way
+from roamair.reports import beacon_row, in_rows, leg_row, message_row, station_numbers
 from roamair.state import (
     HANDED, HOLDS, NO_POINT, WAITS,
-    Leg, add_numbered, begin_anew, come_to_hold_nothing, drop_up_to, find_leg, frames_kept,
-    latest_taking_leg, legs_of,
+    Leg, add_numbered, begin_anew, come_to_hold_nothing, drop_up_to, frames_kept,
+    last_holding_leg, latest_taking_leg, legs_of,
 )
-from roamair.wire import bring, put_give, put_take
+from roamair.wire import bring, put, put_give, put_take
 
 SO_ALREADY = -3
 POINT_OFF = -4
@@ -17,6 +19,7 @@ STATION_NOT_SO = -6
 NO_SUCH_LEG = -7
 NO_ROOM = -8
 NOTHING_TO_SEND = -9
+BAG_FULL = -10
 
 
 def begin(world, numbers):
@@ -116,8 +119,8 @@ def air(world, numbers):
         return [POINT_OFF]
     if station.point != numbers[0] or not station.awake:
         return [STATION_NOT_SO]
-    leg = find_leg(point, numbers[1], station.joins)
-    if leg is None or leg.state != HOLDS:
+    leg = last_holding_leg(world, numbers[0], numbers[1])
+    if leg is None:
         return [NO_SUCH_LEG]
     if len(leg.queue) == 0:
         return [NOTHING_TO_SEND]
@@ -160,8 +163,67 @@ def deliver(world, numbers):
     return [len(world.messages)]
 
 
+def lose(world, numbers):
+    world.messages.pop(numbers[0])
+    return [0]
+
+
+def double(world, numbers):
+    if put(world, world.messages[numbers[0]]) == 0:
+        return [BAG_FULL]
+    return [0]
+
+
+def flow(world, numbers):
+    times = 0
+    while times < numbers[0] and len(world.messages) > 0:
+        bring(world, 0)
+        times = times + 1
+    return [times]
+
+
+def tell_station(world, numbers):
+    return station_numbers(world.stations[numbers[0]])
+
+
+def tell_got(world, numbers):
+    got = world.stations[numbers[0]].got
+    return [len(got)] + got
+
+
+def tell_legs(world, numbers):
+    return in_rows([leg_row(leg) for leg in legs_of(world.points[numbers[0]], numbers[1])])
+
+
+def tell_beacon(world, numbers):
+    rows = []
+    for station_number, station in enumerate(world.stations):
+        leg = last_holding_leg(world, numbers[0], station_number)
+        if station.point == numbers[0] and leg is not None and len(leg.queue) > 0:
+            rows.append(beacon_row(station, leg))
+    return in_rows(rows)
+
+
+def tell_bag(world, numbers):
+    return in_rows([message_row(message) for message in world.messages])
+
+
+def hears(world, numbers):
+    world.weights[numbers[0]][numbers[1]] = numbers[2]
+    world.weights[numbers[1]][numbers[0]] = numbers[2]
+    return [0]
+
+
+def tell_channels(world, numbers):
+    found = best_way(world.weights, numbers[0])
+    return [found[0]] + found[1]
+
+
 # By a call's place.
-CALLS = (begin, power, join_point, leave, sleep, wake, accept, air, retry, give_up, deliver)
+CALLS = (
+    begin, power, join_point, leave, sleep, wake, accept, air, retry, give_up, deliver, lose, double, flow,
+    tell_station, tell_got, tell_legs, tell_beacon, tell_bag, hears, tell_channels,
+)
 
 
 def carry_out(world, place, numbers):

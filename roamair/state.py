@@ -1,5 +1,6 @@
-"""What the air keeps: points and their legs, stations, and messages on the wire."""
+"""What the air keeps: points and their legs, stations, messages on the wire, and who hears whom."""
 
+# These are also the numbers by which answers tell how a leg is, and of which kind a message.
 WAITS = 0
 HOLDS = 1
 HANDED = 2
@@ -62,6 +63,8 @@ class Message:
 
 
 # All there is on one line of calls.
+# weights has a row for each point, with the weight of its pair with each point;
+# 0 is as good as no pair, since it adds to no cost.
 class World:
     def __init__(self):
         self.begun = False
@@ -71,6 +74,7 @@ class World:
         self.points = []
         self.stations = []
         self.messages = []
+        self.weights = []
 
 
 def begin_anew(world, point_count, room, leg_limit, bag_limit):
@@ -81,6 +85,7 @@ def begin_anew(world, point_count, room, leg_limit, bag_limit):
     world.points = [Point() for k in range(point_count)]
     world.stations = [Station() for k in range(STATION_COUNT)]
     world.messages = []
+    world.weights = [[0] * point_count for k in range(point_count)]
 
 
 def find_leg(point, station_number, join_number):
@@ -100,6 +105,14 @@ def latest_taking_leg(point, station_number):
     for leg in reversed(legs_of(point, station_number)):
         if leg.state != HANDED:
             return leg
+    return None
+
+
+# The leg of the station's last join if the point has it and it holds, else None.
+def last_holding_leg(world, point_number, station_number):
+    leg = find_leg(world.points[point_number], station_number, world.stations[station_number].joins)
+    if leg is not None and leg.state == HOLDS:
+        return leg
     return None
 
 

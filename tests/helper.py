@@ -3,7 +3,7 @@
 import random
 import unittest
 
-from roamair.state import GIVE, HANDED, HAVE, LACK, TAKE, WAITS, World
+from roamair.state import World
 from roamair.world import answer, answers
 
 LEAST = -9223372036854775808
@@ -54,6 +54,46 @@ def deliver(k):
     return (10, k)
 
 
+def lose(k):
+    return (11, k)
+
+
+def double(k):
+    return (12, k)
+
+
+def flow(m):
+    return (13, m)
+
+
+def tell_station(x):
+    return (14, x)
+
+
+def tell_got(x):
+    return (15, x)
+
+
+def tell_legs(p, x):
+    return (16, p, x)
+
+
+def tell_beacon(p):
+    return (17, p)
+
+
+def tell_bag():
+    return (18,)
+
+
+def hears(p, q, weight):
+    return (19, p, q, weight)
+
+
+def channels(c):
+    return (20, c)
+
+
 def flat(calls):
     return [number for call in calls for number in call]
 
@@ -94,46 +134,84 @@ def after(world, *calls):
     return [answer(world, call[0], list(call[1:])) for call in calls]
 
 
-def leg_view(leg):
-    if leg.state == WAITS:
-        how = ("waits", leg.other_point, leg.had_got)
-    elif leg.state == HANDED:
-        how = ("handed", leg.other_point)
-    else:
+class Reader:
+    """Reads an answer number by number; an error if it's too short or too long."""
+
+    def __init__(self, numbers):
+        self.left = list(numbers)
+
+    def number(self):
+        return self.left.pop(0)
+
+    def queue(self):
+        return tuple((self.number(), self.number()) for k in range(self.number()))
+
+    def rows(self, read_row):
+        rows = [read_row(self) for k in range(self.number())]
+        if self.left:
+            raise AssertionError(f"{self.left} is told behind the last row")
+        return rows
+
+
+def read_leg(reader):
+    join_number = reader.number()
+    state = (reader.number(), reader.number(), reader.number())
+    if state[0] == 0:
+        how = ("waits",) + state[1:]
+    elif state[0] == 2 and state[2] == 0:
+        how = ("handed", state[1])
+    elif state == (1, 0, 0):
         how = ("holds",)
-    return (leg.join_number, how, leg.next_number, tuple(leg.queue), tuple(leg.fresh), leg.taken_in)
+    else:
+        raise AssertionError(f"no leg is {state}")
+    next_number, queue = reader.number(), reader.queue()
+    fresh = tuple(reader.number() for k in range(reader.number()))
+    return (join_number, how, next_number, queue, fresh, reader.number())
+
+
+def read_message(reader):
+    kind, count = {0: ("take", 5), 1: ("give", 5), 2: ("lack", 3), 3: ("have", 3)}[reader.number()]
+    message = (kind,) + tuple(reader.number() for k in range(count))
+    return message + (reader.queue(),) if kind == "give" else message
 
 
 def legs(world, p, x):
-    return [leg_view(leg) for leg in world.points[p].legs if leg.station_number == x]
-
-
-def message_view(message):
-    whose = (message.station_number, message.join_number)
-    if message.kind == TAKE:
-        return ("take", message.to_point, message.from_point) + whose + (message.number,)
-    if message.kind == GIVE:
-        return ("give", message.to_point, message.from_point) + whose + (message.number, tuple(message.queue))
-    return ({LACK: "lack", HAVE: "have"}[message.kind], message.to_point) + whose
+    return Reader(after(world, tell_legs(p, x))[0]).rows(read_leg)
 
 
 def bag(world):
-    return [message_view(message) for message in world.messages]
+    return Reader(after(world, tell_bag())[0]).rows(read_message)
 
 
 def station(world, x):
-    one = world.stations[x]
-    return (one.joins, one.point, one.last_point, one.awake, tuple(one.got))
+    told, got = after(world, tell_station(x), tell_got(x))
+    if told[2] not in (0, 1) or told[3] != got[0] or len(got) != got[0] + 1:
+        raise AssertionError(f"{told} and {got} don't fit together")
+    # Where it joined last is the one thing that no call tells.
+    return (told[0], told[1], world.stations[x].last_point, told[2] == 1, tuple(got[1:]))
 
 
-def snapshot(world):
+def snapshot(thing):
     """All that a world is, as values that can be compared."""
-    return (
-        world.begun, world.room, world.leg_limit, world.bag_limit,
-        [(point.on, [(leg.station_number, leg_view(leg)) for leg in point.legs]) for point in world.points],
-        [station(world, x) for x in range(len(world.stations))],
-        bag(world),
-    )
+    if isinstance(thing, (list, tuple)):
+        return [snapshot(part) for part in thing]
+    if hasattr(thing, "__dict__"):
+        return {name: snapshot(value) for name, value in vars(thing).items()}
+    return thing
+
+
+def questions(points, stations):
+    """Calls that tell all that can be asked of these stations at so many points."""
+    calls = [make(x) for make in (tell_station, tell_got) for x in stations]
+    calls += [tell_legs(p, x) for p in range(points) for x in stations]
+    calls += [tell_beacon(p) for p in range(points)]
+    return calls + [tell_bag()] + [channels(c) for c in range(1, 5)]
+
+
+def questions_after(calls):
+    """The questions that fit a line of calls, by its last begin and the stations that join."""
+    points = [call[1] for call in calls if call[0] == 0 and 1 <= call[1] <= 8][-1]
+    return questions(points, sorted({0} | {call[1] for call in calls if call[0] == 2}))
 
 
 class RefusalTest(unittest.TestCase):
@@ -143,6 +221,14 @@ class RefusalTest(unittest.TestCase):
         before = snapshot(world)
         self.assertEqual(after(world, call), [[number]], call)
         self.assertEqual(snapshot(world), before)
+        self.refused_as_asked(ground, call, number)
+
+    def refused_as_asked(self, ground, call, number):
+        """The same, seen through the interface alone: what's asked then is answered as without the call."""
+        asked = questions_after(ground)
+        self.assertLess(len(ground) + len(asked), 250)
+        before = ask(*ground, *asked)[len(ground):]
+        self.assertEqual(ask(*ground, call, *asked)[len(ground):], [[number]] + before)
 
 
 class Chooser:
@@ -154,14 +240,24 @@ class Chooser:
         self.stations = self.dice.randint(1, 3)
         self.with_power = with_power
         self.frame = 0
+        self.bags = 0
 
     def begin(self):
         dice = self.dice
         return begin(self.points, dice.choice((2, 6, 1000)), dice.choice((1, 3, 64)), dice.choice((1, 2, 5, 4096)))
 
+    def message(self, world):
+        """The number of a message, now and then one that's out of range."""
+        return self.dice.randrange(-1 if self.dice.random() < 0.02 else 0, len(world.messages) + 1)
+
     def frame_number(self):
         self.frame += 1
         return self.frame
+
+    def bag(self):
+        """Asks for the bag; of such calls a line may have 30."""
+        self.bags += 1
+        return tell_bag() if self.bags <= 30 else flow(1)
 
     def call(self, world):
         dice = self.dice
@@ -178,8 +274,18 @@ class Chooser:
             (5, lambda: air(near, x, int(dice.random() < 0.2), int(dice.random() < 0.3))),
             (2, lambda: retry(p, x)),
             (1, lambda: give_up(p, x)),
-            (8, lambda: deliver(dice.randrange(-1 if dice.random() < 0.02 else 0, len(world.messages) + 1))),
+            (8, lambda: deliver(self.message(world))),
             (0.2, lambda: air(p, x, dice.randint(-1, 2), dice.randint(-1, 2))),
+            (0.7, lambda: lose(self.message(world))),
+            (1, lambda: double(self.message(world))),
+            (0.7, lambda: flow(dice.choice((-1, 0, 1, 2, 3, 5, 10000, 10001)))),
+            (0.2, lambda: tell_station(x)),
+            (0.3, lambda: tell_got(x)),
+            (0.6, lambda: tell_legs(dice.choice((p, near)), x)),
+            (0.5, lambda: tell_beacon(dice.choice((p, near)))),
+            (0.5, self.bag),
+            (0.5, lambda: hears(p, dice.randrange(self.points), dice.choice((0, 1, 2, 2, 3, 1000000)))),
+            (0.3, lambda: channels(dice.randint(1, 4))),
         ]
         if self.with_power:
             calls.append((0.7, lambda: power(p, dice.choice((0, 1, 1)))))

@@ -1,10 +1,16 @@
 """The program beside a second writing of the document's sentences, on many lines."""
 
+import itertools
 import unittest
 
 from roamair.state import World
 from roamair.world import answer
-from tests.helper import Chooser, ask
+from tests.helper import Chooser, ask, questions
+
+NAMES = (
+    "begin", "power", "join", "leave", "sleep", "wake", "accept", "air", "retry", "give_up", "deliver", "lose",
+    "double", "flow", "tell_station", "tell_got", "tell_legs", "tell_beacon", "tell_bag", "hears", "channels",
+)
 
 
 class Refused(Exception):
@@ -27,8 +33,7 @@ class Model:
     def ask(self, place, *numbers):
         try:
             need(self.begun or place == 0, -1)
-            names = ("begin", "power", "join", "leave", "sleep", "wake", "accept", "air", "retry", "give_up", "deliver")
-            return getattr(self, names[place])(*numbers)
+            return getattr(self, NAMES[place])(*numbers)
         except Refused as refusal:
             return [refusal.args[0]]
 
@@ -41,6 +46,7 @@ class Model:
         self.off = set()
         self.legs = {}
         self.messages = []
+        self.pairs = {}
         self.joins = [0] * 64
         self.where = [None] * 64
         self.last = [None] * 64
@@ -162,11 +168,13 @@ class Model:
         self.hold(self.legs[lost[0]], {}, self.legs[lost[0]]["n"] + 1)
         return [lost[0][2]]
 
-    def deliver(self, k):
-        self.between((k, 0, len(self.messages) - 1))
-        message = self.messages.pop(k)
+    def bring(self, message):
         if message[1] not in self.off:
             getattr(self, "bring_" + message[0])(*message[1:])
+
+    def deliver(self, k):
+        self.between((k, 0, len(self.messages) - 1))
+        self.bring(self.messages.pop(k))
         return [len(self.messages)]
 
     def bring_take(self, q, p, x, j, n):
@@ -198,8 +206,83 @@ class Model:
             del self.legs[q, x, j - 1]
 
 
+    def lose(self, k):
+        self.between((k, 0, len(self.messages) - 1))
+        self.messages = self.messages[:k] + self.messages[k + 1:]
+        return [0]
+
+    def double(self, k):
+        self.between((k, 0, len(self.messages) - 1))
+        need(len(self.messages) != self.bag_told, -10)
+        self.messages = self.messages + [self.messages[k]]
+        return [0]
+
+    def flow(self, m):
+        self.between((m, 0, 10000))
+        for times in range(m):
+            if not self.messages:
+                return [times]
+            self.bring(self.messages.pop(0))
+        return [m]
+
+    def tell_station(self, x):
+        self.between((x, 0, 63))
+        where = -1 if self.where[x] is None else self.where[x]
+        return [self.joins[x], where, int(x not in self.asleep), len(self.got[x])]
+
+    def tell_got(self, x):
+        self.between((x, 0, 63))
+        return [len(self.got[x]), *self.got[x]]
+
+    def tell_legs(self, p, x):
+        self.between((p, 0, self.points - 1), (x, 0, 63))
+        told = [len(self.of(p, x))]
+        for key in self.of(p, x):
+            leg = self.legs[key]
+            how = {"waits": (0, leg["q"], leg["n"]), "holds": (1, 0, 0), "handed": (2, leg["q"], 0)}[leg["how"]]
+            told += [key[2], *how, leg["next"], len(leg["queue"])]
+            told += itertools.chain.from_iterable(sorted(leg["queue"].items()))
+            told += [len(leg["fresh"]), *leg["fresh"], leg["in"]]
+        return told
+
+    def tell_beacon(self, p):
+        self.between((p, 0, self.points - 1))
+        told = [0]
+        for x in range(64):
+            leg = self.legs.get((p, x, self.joins[x]))
+            if self.where[x] == p and leg and leg["how"] == "holds" and leg["queue"]:
+                told[0] += 1
+                told += [x, len(leg["queue"]), int(x not in self.asleep)]
+        return told
+
+    def tell_bag(self):
+        told = [len(self.messages)]
+        for message in self.messages:
+            told.append(("take", "give", "lack", "have").index(message[0]))
+            told += message[1:6]
+            if message[0] == "give":
+                told.append(len(message[6]))
+                told += itertools.chain.from_iterable(message[6])
+        return told
+
+    def hears(self, p, q, weight):
+        self.between((p, 0, self.points - 1), (q, 0, self.points - 1), (weight, 0, 1000000))
+        need(p != q, -2)
+        self.pairs[frozenset((p, q))] = weight
+        return [0]
+
+    def channels(self, c):
+        self.between((c, 1, 4))
+        ways = []
+        for way in itertools.product(range(c), repeat=self.points):
+            same = [weight for pair, weight in self.pairs.items() if len({way[p] for p in pair}) == 1]
+            ways.append([sum(same), *way])
+        return min(ways)
+
+
 class BesideTheModel(unittest.TestCase):
     def test_the_two_answer_alike(self):
+        met = set()
         for seed in range(1000, 1400):
             chooser = Chooser(seed, seed % 4 > 0)
             model = Model()
@@ -207,12 +290,16 @@ class BesideTheModel(unittest.TestCase):
             calls = [chooser.begin()]
             expected = [model.ask(*calls[0])]
             answer(world, 0, list(calls[0][1:]))
-            while len(calls) < 250:
+            asked = questions(chooser.points, range(chooser.stations))
+            while len(calls) < 250 - len(asked):
                 calls.append(chooser.call(world))
                 expected.append(model.ask(*calls[-1]))
                 answer(world, calls[-1][0], list(calls[-1][1:]))
+            calls += asked
+            expected += [model.ask(*call) for call in asked]
             self.assertEqual(ask(*calls), expected, calls)
-            self.assertEqual([station.got for station in world.stations], model.got, calls)
+            met.update(call[0] for call, told in zip(calls, expected) if told[0] >= 0)
+        self.assertEqual(met, set(range(21)))
 
 
 if __name__ == "__main__":

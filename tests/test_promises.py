@@ -4,7 +4,7 @@ import unittest
 
 from roamair.state import HANDED, HOLDS, World
 from roamair.world import answer
-from tests.helper import Chooser, after, air, ask, deliver, retry, snapshot
+from tests.helper import Chooser, after, air, ask, bag, flow, legs, questions, retry, snapshot, station
 
 LINES = 300
 CALLS = 250
@@ -62,7 +62,7 @@ class Promises(unittest.TestCase):
         for seed in range(LINES):
             for watch in watched(seed, True):
                 self.check_order(watch)
-            got += sum(len(station.got) for station in watch.world.stations)
+            got += sum(len(one.got) for one in watch.world.stations)
         self.assertGreater(got, LINES)
 
     def test_nothing_is_lost_while_no_point_loses_its_power(self):
@@ -73,8 +73,21 @@ class Promises(unittest.TestCase):
                 for x, taken in watch.taken.items():
                     self.assertEqual(
                         watch.kept(x) | set(watch.world.stations[x].got), set(taken), (watch.calls, x))
-            got += sum(len(station.got) for station in watch.world.stations)
+            got += sum(len(one.got) for one in watch.world.stations)
         self.assertGreater(got, LINES)
+
+    def test_both_as_asked(self):
+        for seed in range(LINES):
+            for watch in watched(seed, False):
+                pass
+            for x, taken in watch.taken.items():
+                got = station(watch.world, x)[4]
+                self.assertEqual(len(got), len(set(got)))
+                kept = set()
+                for p in range(len(watch.world.points)):
+                    for leg in legs(watch.world, p, x):
+                        kept.update(leg[4], [frame for number, frame in leg[3]])
+                self.assertEqual(kept | set(got), set(taken), (watch.calls, x))
 
     def test_all_comes_to_the_station_in_the_end(self):
         for seed in range(LINES):
@@ -86,22 +99,20 @@ class Promises(unittest.TestCase):
 
     def settle(self, world):
         """Brings every message, asks again for what's lost, and sends all to stations that are awake."""
-        legs = True
-        while legs:
+        unsettled = True
+        while unsettled:
             for p in range(len(world.points)):
                 for x in range(3):
-                    while world.messages:
-                        after(world, deliver(0))
-                    after(world, retry(p, x))
-            while world.messages:
-                after(world, deliver(0))
-            legs = [leg for point in world.points for leg in point.legs if leg.state != HOLDS]
+                    after(world, flow(10000), retry(p, x))
+            after(world, flow(10000))
+            unsettled = [leg for point in world.points for leg in point.legs if leg.state != HOLDS]
+        self.assertEqual(bag(world), [])
         for x in range(3):
-            station = world.stations[x]
-            if station.joins > 0:
-                station.point = station.last_point
-                station.awake = True
-                while after(world, air(station.point, x)) != [[-9]]:
+            one = world.stations[x]
+            if one.joins > 0:
+                one.point = one.last_point
+                one.awake = True
+                while after(world, air(one.point, x)) != [[-9]]:
                     pass
 
     def test_a_join_has_at_most_one_leg(self):
@@ -141,8 +152,18 @@ class Refusals(unittest.TestCase):
             self.assertEqual(ask(*[call for call, told in kept]), [told for call, told in kept])
             for told in given:
                 refused[told[0]] = True
-        # Every refusal of the calls that there are has been met but -1.
-        self.assertEqual([number for number in range(-9, -1) if number not in refused], [])
+        # Every refusal has been met but -1.
+        self.assertEqual([number for number in range(-10, -1) if number not in refused], [])
+
+    def test_asking_changes_nothing(self):
+        for seed in range(40):
+            for watch in watched(seed, True):
+                pass
+            before = snapshot(watch.world)
+            asked = questions(len(watch.world.points), range(64))
+            first = after(watch.world, *asked)
+            self.assertEqual(snapshot(watch.world), before)
+            self.assertEqual(after(watch.world, *asked), first)
 
 
 if __name__ == "__main__":

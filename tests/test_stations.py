@@ -3,8 +3,8 @@
 import unittest
 
 from tests.helper import (
-    RefusalTest, accept, after, air, ask, ask_last, bag, begin, deliver, give_up, join, leave, legs, play, power,
-    retry, sleep, snapshot, station, wake,
+    RefusalTest, accept, after, air, ask, ask_last, bag, begin, deliver, give_up, hears, join, leave, legs, play,
+    power, questions, retry, sleep, snapshot, station, wake,
 )
 
 
@@ -21,9 +21,11 @@ class Begin(RefusalTest):
     def test_a_second_time_all_is_anew(self):
         line = [
             begin(3, 5, 5, 5), join(0, 0), accept(0, 0, 7), air(0, 0), join(0, 1), accept(1, 0, 8), join(5, 2),
-            sleep(5), leave(0), power(0, 0),
+            sleep(5), leave(0), power(0, 0), hears(0, 1, 9),
         ]
         self.assertEqual(snapshot(play(*line, begin(2, 6, 7, 8))), snapshot(play(begin(2, 6, 7, 8))))
+        asked = questions(2, (0, 5, 63))
+        self.assertEqual(ask(*line, begin(2, 6, 7, 8), *asked)[len(line):], ask(begin(2, 6, 7, 8), *asked))
 
     def test_what_is_asked_after_a_second_time(self):
         first = [begin(2, 2, 2, 2), join(0, 0), accept(0, 0, 7), air(0, 0), join(0, 1), join(3, 1), sleep(3)]
@@ -176,7 +178,7 @@ class Leave(RefusalTest):
 
     def test_no_point_hears_of_it(self):
         line = [begin(), join(0, 1), accept(1, 0, 5)]
-        self.assertEqual(snapshot(play(*line, leave(0)))[4], snapshot(play(*line))[4])
+        self.assertEqual(snapshot(play(*line, leave(0)).points), snapshot(play(*line).points))
         self.assertEqual(bag(play(*line, leave(0))), [])
         self.assertEqual(ask_last(*line, leave(0), accept(1, 0, 6)), [1, 2])
 
